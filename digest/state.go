@@ -39,7 +39,7 @@ func (s *state) take(part []byte) {
 	}
 }
 
-// now is the words so far: words is filled by the first whole block alone, so
+// now is the words so far: words is filled only from the first whole block on, so
 // that a zero state may be used.
 func (s *state) now() [8]uint32 {
 	if s.told < blockSize {
